@@ -1,0 +1,1 @@
+"""Stepledger: runs told as tables, and lookers that see two rows at a time."""
