@@ -26,6 +26,13 @@ WORDS_NOT_USED = re.compile(
     r"\b(type|typing|typing_extensions|enum|Enum|IntEnum|StrEnum|Flag|IntFlag|Generic|Protocol|ABC|ABCMeta|namedtuple|"
     r"NamedTuple|TypedDict|TYPE_CHECKING|abstractmethod)\b|dataclass|overload|contextmanager"
 )
+NAMES_NOT_USED = set(
+    "register mro elements open input version_info with_traceback add_note attrgetter breakpoint builtins compile "
+    "copyright credits delattr dir eval exec exit gc getattr globals hasattr help id importlib license locals "
+    "methodcaller os quit setattr super type vars sys".split()
+)
+# Those of Python's own methods that a value of an object may be called like.
+VALUES_ALLOWED = set("count index title find get join lower upper split strip copy add".split())
 NODES = (
     ast.Module, ast.ImportFrom, ast.alias, ast.FunctionDef, ast.ClassDef, ast.arguments, ast.arg, ast.Assign,
     ast.AugAssign, ast.If, ast.While, ast.For, ast.Return, ast.Break, ast.Continue, ast.Pass, ast.Raise, ast.Try,
@@ -44,6 +51,23 @@ def walked():
     for path in files():
         for node in ast.walk(ast.parse(path.read_text())):
             yield path, node
+
+
+def trees():
+    return {path.stem: ast.parse(path.read_text()) for path in files()}
+
+
+def drawn_from(tree):
+    return {node.module.split(".")[1] for node in ast.walk(tree) if isinstance(node, ast.ImportFrom)}
+
+
+def method_names(tree):
+    classes = [node for node in ast.walk(tree) if isinstance(node, ast.ClassDef)]
+    return {part.name for node in classes for part in node.body if isinstance(part, ast.FunctionDef)}
+
+
+def value_names(tree):
+    return {n.attr for n in ast.walk(tree) if isinstance(n, ast.Attribute) and isinstance(n.ctx, ast.Store)}
 
 
 def bound_names(tree):
@@ -138,13 +162,58 @@ class Form(unittest.TestCase):
                 self.assertIn(node.id, OWN_NAMES, self.where(path, node))
 
     def test_methods(self):
-        own = set()
-        for path, node in walked():
-            if isinstance(node, ast.ClassDef):
-                own |= {part.name for part in node.body if isinstance(part, ast.FunctionDef)}
+        own = set().union(*[method_names(tree) for tree in trees().values()])
         for path, node in walked():
             if isinstance(node, ast.Call) and isinstance(node.func, ast.Attribute):
                 self.assertIn(node.func.attr, METHODS | own, self.where(path, node))
+
+    def test_values_of_objects(self):
+        pythons = set().union(*[dir(kind) for kind in (str, int, list, tuple, dict, set, bytes)]) | {"args"}
+        methods = set().union(*[method_names(tree) for tree in trees().values()])
+        for name, tree in trees().items():
+            self.assertEqual(value_names(tree) & methods, set(), name)
+            self.assertEqual(value_names(tree) & (pythons - VALUES_ALLOWED), set(), name)
+
+    def test_names_that_are_not_used(self):
+        for path, node in walked():
+            for name in (getattr(node, "id", None), getattr(node, "attr", None)):
+                self.assertNotIn(name, NAMES_NOT_USED, self.where(path, node))
+
+    def test_each_name_once_at_a_file_s_top(self):
+        for name, tree in trees().items():
+            top = []
+            for node in tree.body:
+                if isinstance(node, ast.ImportFrom):
+                    top += [alias.asname or alias.name for alias in node.names]
+                elif isinstance(node, ast.Assign):
+                    top.append(node.targets[0].id)
+                elif not isinstance(node, ast.Expr):
+                    top.append(node.name)
+            self.assertEqual(sorted(set(top)), sorted(top), name)
+
+    def test_no_local_is_called_like_a_class_or_an_import(self):
+        for name, tree in trees().items():
+            taken = {alias.name for node in ast.walk(tree) if isinstance(node, ast.ImportFrom) for alias in node.names}
+            taken |= {node.name for node in tree.body if isinstance(node, ast.ClassDef)}
+            for node in ast.walk(tree):
+                if isinstance(node, ast.FunctionDef):
+                    self.assertEqual(taken & set(bound_names(node)), set(), f"{name}: {node.name}")
+
+    def test_each_import_is_from_the_file_that_defines_it(self):
+        for name, tree in trees().items():
+            for node in ast.walk(tree):
+                if isinstance(node, ast.ImportFrom):
+                    defined = [getattr(part, "name", None) for part in trees()[node.module.split(".")[1]].body]
+                    for alias in node.names:
+                        self.assertIn(alias.name, defined, name)
+
+    def test_no_two_files_draw_from_one_another(self):
+        left = {name: drawn_from(tree) for name, tree in trees().items()}
+        while left:
+            free = [name for name in left if not left[name] & set(left)]
+            self.assertNotEqual(free, [], sorted(left))
+            for name in free:
+                del left[name]
 
 
 if __name__ == "__main__":
