@@ -31,6 +31,13 @@ NAMES_NOT_USED = set(
     "copyright credits delattr dir eval exec exit gc getattr globals hasattr help id importlib license locals "
     "methodcaller os quit setattr super type vars sys".split()
 )
+# Which keywords may stand at which of Python's own names.
+KEYWORDS = {
+    "sorted": {"key", "reverse"}, "min": {"key", "default"}, "max": {"key", "default"}, "sum": {"start"},
+    "enumerate": {"start"}, "zip": {"strict"},
+}
+WALKED_AT_ONCE = {"zip", "enumerate", "reversed", "range", "items", "keys", "values"}
+WALKERS = {"list", "tuple", "dict", "sorted", "sum", "any", "all", "enumerate", "zip", "min", "max", "join"}
 # Those of Python's own methods that a value of an object may be called like.
 VALUES_ALLOWED = set("count index title find get join lower upper split strip copy add".split())
 NODES = (
@@ -59,6 +66,28 @@ def trees():
 
 def drawn_from(tree):
     return {node.module.split(".")[1] for node in ast.walk(tree) if isinstance(node, ast.ImportFrom)}
+
+
+def defined_names(tree):
+    plain = {node.targets[0].id for node in tree.body if isinstance(node, ast.Assign)}
+    return plain | {node.name for node in tree.body if isinstance(node, (ast.FunctionDef, ast.ClassDef))}
+
+
+def kept_names(tree):
+    """The names of lists and dicts at a file's top."""
+    kept = [node for node in tree.body if isinstance(node, ast.Assign) and isinstance(node.value, (ast.List, ast.Dict))]
+    return {node.targets[0].id for node in kept}
+
+
+def called_name(node):
+    """The name of a call by a plain name, or that of a method; None of anything else."""
+    if not isinstance(node, ast.Call):
+        return None
+    return node.func.id if isinstance(node.func, ast.Name) else node.func.attr
+
+
+def parents(tree):
+    return {child: node for node in ast.walk(tree) for child in ast.iter_child_nodes(node)}
 
 
 def method_names(tree):
@@ -203,9 +232,89 @@ class Form(unittest.TestCase):
         for name, tree in trees().items():
             for node in ast.walk(tree):
                 if isinstance(node, ast.ImportFrom):
-                    defined = [getattr(part, "name", None) for part in trees()[node.module.split(".")[1]].body]
+                    defined = defined_names(trees()[node.module.split(".")[1]])
                     for alias in node.names:
                         self.assertIn(alias.name, defined, name)
+
+    def test_a_file_s_top(self):
+        for name, tree in trees().items():
+            self.assertIsNotNone(ast.get_docstring(tree), name)
+            for node in tree.body[1:]:
+                self.assertIsInstance(node, (ast.ImportFrom, ast.FunctionDef, ast.ClassDef, ast.Assign), name)
+                if isinstance(node, ast.Assign):
+                    value = ast.literal_eval(node.value)
+                    inner = value.values() if isinstance(value, dict) else value if isinstance(value, list) else ()
+                    self.assertFalse([part for part in inner if isinstance(part, (list, dict))], name)
+
+    def test_lists_and_dicts_of_a_file_s_top_are_only_read(self):
+        for name, tree in trees().items():
+            around = parents(tree)
+            for node in ast.walk(tree):
+                if isinstance(node, ast.Name) and isinstance(node.ctx, ast.Load) and node.id in kept_names(tree):
+                    use = around[node]
+                    indexed = isinstance(use, ast.Subscript) and isinstance(use.ctx, ast.Load)
+                    asked = isinstance(use, ast.Attribute) and use.attr in ("get", "items", "keys", "values")
+                    self.assertTrue(isinstance(use, ast.Compare) or indexed or asked, f"{name}:{node.lineno}")
+
+    def test_lists_and_dicts_of_a_file_s_top_stay_in_their_file(self):
+        for name, tree in trees().items():
+            for node in ast.walk(tree):
+                if isinstance(node, ast.ImportFrom):
+                    kept = kept_names(trees()[node.module.split(".")[1]])
+                    self.assertEqual({alias.name for alias in node.names} & kept, set(), name)
+
+    def test_keywords(self):
+        own = set().union(*[defined_names(tree) for tree in trees().values()])
+        for path, node in walked():
+            if isinstance(node, ast.Call) and node.keywords and called_name(node) not in own:
+                words = {word.arg for word in node.keywords}
+                self.assertLessEqual(words, KEYWORDS.get(called_name(node), set()), self.where(path, node))
+
+    def test_what_is_walked_on_the_spot(self):
+        for name, tree in trees().items():
+            around = parents(tree)
+            for node in ast.walk(tree):
+                if called_name(node) in WALKED_AT_ONCE:
+                    use = around[node]
+                    walk = isinstance(use, (ast.For, ast.comprehension)) and use.iter == node
+                    self.assertTrue(walk or called_name(use) in WALKERS, f"{name}:{node.lineno}")
+
+    def test_sets(self):
+        for name, tree in trees().items():
+            around = parents(tree)
+            for node in ast.walk(tree):
+                if isinstance(node, ast.Set) or called_name(node) in ("set", "frozenset"):
+                    use = around[node]
+                    self.assertTrue(
+                        isinstance(use, ast.Compare) or called_name(use) in ("sorted", "len"), f"{name}:{node.lineno}"
+                    )
+
+    def test_numbers_and_texts(self):
+        for path, node in walked():
+            where = self.where(path, node)
+            if isinstance(node, ast.BinOp) and isinstance(node.op, ast.Pow):
+                self.assertIsInstance(node.right, ast.Constant, where)
+            if isinstance(node, ast.Constant) and isinstance(node.value, str):
+                self.assertNotIn("%", node.value, where)
+
+    def test_errors_and_annotations(self):
+        for path, node in walked():
+            where = self.where(path, node)
+            if isinstance(node, ast.Raise):
+                self.assertIsInstance(node.exc, ast.Call, where)
+            if isinstance(node, ast.ExceptHandler):
+                self.assertIsInstance(node.type, ast.Name, where)
+                self.assertNotIn(node.type.id, ("Exception", "TypeError"), where)
+            if isinstance(node, ast.FunctionDef):
+                self.assertIsNone(node.returns, where)
+            if isinstance(node, ast.arg):
+                self.assertIsNone(node.annotation, where)
+
+    def test_what_an_init_gives_back(self):
+        for path, node in walked():
+            if isinstance(node, ast.FunctionDef) and node.name == "__init__":
+                returns = [part for part in ast.walk(node) if isinstance(part, ast.Return)]
+                self.assertEqual(returns, [], self.where(path, node))
 
     def test_no_two_files_draw_from_one_another(self):
         left = {name: drawn_from(tree) for name, tree in trees().items()}
